@@ -1,0 +1,41 @@
+"""What kind a thing is: the questions that judge arguments."""
+
+
+def is_integer(thing):
+    """Tell whether a thing is an integer; a flag is none."""
+    return isinstance(thing, int) and not isinstance(thing, bool)
+
+
+def is_between(thing, least, most):
+    """Tell whether a thing is an integer from the least to the most."""
+    return is_integer(thing) and least <= thing <= most
+
+
+def is_below(thing, bound):
+    """Tell whether a thing is a number below the bound."""
+    return is_integer(thing) and 0 <= thing < bound
+
+
+def is_pair(thing):
+    """Tell whether a thing is a tuple of two."""
+    return isinstance(thing, tuple) and len(thing) == 2
+
+
+def is_lot(thing, bound):
+    """Tell whether a thing is an ascending tuple of unlike numbers below the bound."""
+    if not isinstance(thing, tuple):
+        return False
+    least = 0
+    for number in thing:
+        if not is_between(number, least, bound - 1):
+            return False
+        least = number + 1
+    return True
+
+
+def is_order(thing, many):
+    """Tell whether a thing is a tuple of all numbers below many, each once."""
+    if not isinstance(thing, tuple) or len(thing) != many:
+        return False
+    # Only integers are sorted: other things may not be put in an order at all.
+    return all([is_below(number, many) for number in thing]) and sorted(thing) == list(range(many))

@@ -1,0 +1,110 @@
+"""Things to judge, webs to try, and what several tests ask."""
+
+import unittest
+from itertools import combinations, combinations_with_replacement, product
+
+from takenjoined.errors import NoTie
+from takenjoined.webs import Web
+
+
+def nested(kind, depth=40, core=0):
+    """Put a core into lists, tuples or dicts, one within the other."""
+    thing = core
+    for _ in range(depth - 1):
+        thing = {0: thing} if kind is dict else kind([thing])
+    return thing
+
+
+def odd_things():
+    """List things of all kinds, none of them an integer, a pair of integers or a tuple of these."""
+    return [
+        None, True, False, "", "0", "many", "(0, 1)", b"", b"\x00\x01", bytearray(b"\x00"), memoryview(b"\x00"),
+        [], [0], [0, 1], [(0, 1)], [0, 1, 2], {}, {0: 0}, {0: 1, 1: 2}, {(0, 1): None},
+        range(0), range(3), slice(0, 1), Ellipsis, NotImplemented, object(), len, int, tuple, iter(()),
+        (None,), ("0",), ((),), ([],), ({},), (True,), (False,), (0, None), (0, "1"), (0, True), (False, 1), ([0, 1],),
+        Web(1, ()), Web(3, ((0, 1),)), (Web(1, ()),), NoTie(), NoTie, [Web(1, ())],
+        nested(tuple), nested(list), nested(dict), nested(tuple, core=Web(1, ())), [0] * 99999, (None,) * 99999,
+    ]
+
+
+def no_index(bound):
+    """List what is no number below the bound."""
+    tuples = [(), (0,), (0, 1), (0, 0), ((0, 1),)]
+    return odd_things() + tuples + [-1, -2, -bound, -bound - 1, bound, bound + 1, 10 ** 20 - 1, 1 - 10 ** 20]
+
+
+def form(thing):
+    """Tell what a thing holds, so that a change of it can be seen."""
+    if isinstance(thing, Web):
+        return ("Web", form(thing.many), form(thing.ties))
+    if isinstance(thing, (list, tuple)) and len(thing) < 1000:
+        return (type(thing), [form(part) for part in thing])
+    if isinstance(thing, dict):
+        return (dict, [(form(key), form(part)) for key, part in thing.items()])
+    return (type(thing), repr(thing))
+
+
+def webs_of(many, most):
+    """List all webs of so many places with at most so many ties, in one order of the ties each."""
+    pairs = list(combinations_with_replacement(range(many), 2))
+    return [Web(many, ties) for count in range(most + 1) for ties in combinations_with_replacement(pairs, count)]
+
+
+def way_webs_of(many, count):
+    """List all webs of so many places with just so many ties, in each order of the ties."""
+    pairs = list(combinations_with_replacement(range(many), 2))
+    return [Web(many, ties) for ties in product(pairs, repeat=count)]
+
+
+def small_webs():
+    """List webs enough to try what holds of each one."""
+    webs = [web for many in (1, 2, 3) for web in webs_of(many, 3)] + way_webs_of(2, 3) + way_webs_of(3, 2)
+    return webs + webs_of(4, 2) + [triangle(), wheel(), petersen(), ladder(), Web(10, ()), Web(1, ((0, 0),) * 16)]
+
+
+def triangle():
+    return Web(3, ((0, 1), (0, 2), (1, 2)))
+
+
+def wheel():
+    """Four places around a fifth one, the ties not in an order."""
+    return Web(5, ((3, 4), (0, 1), (2, 4), (1, 2), (0, 4), (2, 3), (1, 4), (0, 3)))
+
+
+def petersen():
+    outer = [(k, k + 1) for k in range(4)] + [(0, 4)]
+    inner = [(5, 7), (7, 9), (6, 9), (6, 8), (5, 8)]
+    return Web(10, tuple(outer + [(k, k + 5) for k in range(5)] + inner))
+
+
+def ladder():
+    """Two triangles, a bridge between them, a selftie, two alike ties and a place alone."""
+    return Web(8, ((0, 1), (3, 4), (1, 2), (2, 3), (0, 2), (3, 5), (4, 5), (5, 5), (5, 6), (5, 6)))
+
+
+def lots(count):
+    """List all lots of the numbers below count."""
+    return [lot for size in range(count + 1) for lot in combinations(range(count), size)]
+
+
+class Judging(unittest.TestCase):
+    """Asks what a call raises, and that it changes nothing."""
+
+    def assert_kept(self, error, call, *given):
+        """The call raises just this error, and what it was given is as it was; tell the error."""
+        ahead = [form(thing) for thing in given]
+        with self.assertRaises(Exception) as caught:
+            call(*given)
+        self.assertIs(type(caught.exception), error, (call, [repr(thing)[:80] for thing in given]))
+        self.assertEqual([form(thing) for thing in given], ahead)
+        return caught.exception
+
+    def assert_same(self, one, other):
+        """Both are equal, flags and integers, tuples and lists apart."""
+        self.assertEqual(form(one), form(other))
+
+    def assert_web(self, web, many, ties):
+        """A thing is the Web of so many places and these ties."""
+        self.assertIs(type(web), Web)
+        self.assert_same(web.many, many)
+        self.assert_same(web.ties, ties)
