@@ -1,5 +1,7 @@
 """What kind a thing is: the questions that judge arguments."""
 
+MOST_COLOURS = 1000000000
+
 
 def is_integer(thing):
     """Tell whether a thing is an integer; a flag is none."""
@@ -39,3 +41,13 @@ def is_order(thing, many):
         return False
     # Only integers are sorted: other things may not be put in an order at all.
     return all([is_below(number, many) for number in thing]) and sorted(thing) == list(range(many))
+
+
+def is_colours(thing):
+    """Tell whether a thing is how many colours paintings may have."""
+    return is_between(thing, 0, MOST_COLOURS)
+
+
+def is_integers(thing):
+    """Tell whether a thing is a tuple of integers."""
+    return isinstance(thing, tuple) and all([is_integer(part) for part in thing])

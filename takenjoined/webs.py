@@ -52,12 +52,27 @@ def taken(web, tie):
 def joined(web, tie):
     """Tell the web without a tie whose two places have become one."""
     without = taken(web, tie)
-    u, v = web.ties[tie]
-    if u == v:
+    if not is_joining(web, tie):
         return without
+    return Web(web.many - 1, _called(without.ties, joined_names(web, tie)))
+
+
+def is_joining(web, thing):
+    """Tell whether a thing is the number of a tie that is no selftie."""
+    return is_below(thing, len(web.ties)) and web.ties[thing][0] < web.ties[thing][1]
+
+
+def joined_names(web, tie):
+    """List for each place what it is called when the two places of a tie have become one."""
+    u, v = web.ties[tie]
     names = [place if place < v else place - 1 for place in range(web.many)]
     names[v] = u
-    return Web(web.many - 1, _called(without.ties, names))
+    return names
+
+
+def has_selftie(web):
+    """Tell whether some tie of a web is a selftie."""
+    return any([u == v for u, v in web.ties])
 
 
 def beside(one, other):

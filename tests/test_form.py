@@ -15,6 +15,21 @@ INTERFACE = {
         "glued": ("one", "other", "u", "v"), "renamed": ("web", "order"),
     },
     "rings": {"parts": ("web", "lot"), "rank": ("web", "lot"), "rings": ("web",), "bridges": ("web",)},
+    "paintings": {
+        "is_painting": ("web", "q", "thing"), "is_good": ("web", "q", "thing"), "painted": ("web", "q"),
+        "paintings": ("web", "q"),
+    },
+    "counts": {
+        "numbers": ("web",), "worth": ("numbers", "q"), "parted": ("one", "other"), "fewest": ("web",),
+        "paper": ("web",), "is_paper": ("web", "thing"),
+    },
+    "broken": {"unbroken": ("web", "way"), "mate": ("web", "way", "lot")},
+    "signings": {
+        "is_signing": ("web", "thing"), "round_of": ("web", "signing"), "rising": ("web",),
+        "sources": ("web", "signing"), "fitting": ("web", "q"), "fits": ("web", "q"),
+        "is_fitting": ("web", "q", "thing"), "split": ("web", "tie", "q", "pair"),
+        "merged": ("web", "tie", "q", "word", "pair"),
+    },
 }
 BUILTINS = (
     "len range enumerate zip min max sum abs sorted reversed int str bool bytes list tuple dict set isinstance ord "

@@ -33,6 +33,44 @@ def no_index(bound):
     return odd_things() + tuples + [-1, -2, -bound, -bound - 1, bound, bound + 1, 10 ** 20 - 1, 1 - 10 ** 20]
 
 
+def no_integer():
+    """List what is no integer at all."""
+    return odd_things() + [(), (0,), (0, 1)]
+
+
+def no_colours():
+    """List what is no number of colours of a painting of any size."""
+    return no_integer() + [-1, -2, 10 ** 9 + 1, 10 ** 20 - 1, 1 - 10 ** 20]
+
+
+def otherwise(thing):
+    """List things like this one but for one thing at one place in it; some may be as good as it is."""
+    found = [None, "", (), [], nested(tuple), nested(list)]
+    if isinstance(thing, bool):
+        return found + [not thing, int(thing), str(thing), [thing]]
+    if isinstance(thing, int):
+        return found + [thing - 1, thing + 1, -thing, thing + 10 ** 19, str(thing), (thing,), bool(thing), {thing: 0}]
+    if isinstance(thing, str):
+        return found + [thing + " ", thing[1:], thing.encode(), thing.upper(), (thing,)]
+    if isinstance(thing, Web):
+        more = [Web(thing.many, thing.ties + ((0, 0),)), Web(thing.many % 10 + 1, thing.ties)]
+        return found + more + [Web(thing.many, thing.ties[:-1]), (thing.many, thing.ties), thing.ties]
+    if isinstance(thing, (tuple, list)):
+        return found + otherwise_rows(thing)
+    return found + [0, False, True, [None]]
+
+
+def otherwise_rows(row):
+    """List tuples or lists like this one but for one thing at one place."""
+    kind = type(row)
+    other = list if kind is tuple else tuple
+    found = [other(row), kind(reversed(row)), kind([row]), dict(enumerate(row)), row + row]
+    for at, part in enumerate(row):
+        found += [row[:at] + row[at + 1:], row[:at] + kind([part]) + row[at:]]
+        found += [row[:at] + kind([new]) + row[at + 1:] for new in otherwise(part)]
+    return found
+
+
 def form(thing):
     """Tell what a thing holds, so that a change of it can be seen."""
     if isinstance(thing, Web):
@@ -69,6 +107,23 @@ def triangle():
 def wheel():
     """Four places around a fifth one, the ties not in an order."""
     return Web(5, ((3, 4), (0, 1), (2, 4), (1, 2), (0, 4), (2, 3), (1, 4), (0, 3)))
+
+
+def all_tied(many):
+    """Each two places tied."""
+    return Web(many, tuple(combinations(range(many), 2)))
+
+
+def ring_of(many):
+    """As many places as ties, all in one ring, the ties not in an order."""
+    ties = [(place, place + 1) for place in range(many - 1)] + [(0, many - 1)]
+    return Web(many, tuple(ties[1::2] + ties[::2]))
+
+
+def crowded():
+    """Ten places and sixteen ties, no two of them alike."""
+    ties = [(0, 9), (1, 8), (2, 7), (3, 6), (4, 5), (0, 1), (1, 2), (2, 3), (3, 4), (5, 9), (6, 8), (7, 9), (0, 5)]
+    return Web(10, tuple(ties + [(2, 8), (4, 7), (1, 6)]))
 
 
 def petersen():
