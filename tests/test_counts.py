@@ -167,8 +167,9 @@ def holds_word_by_word(triples, at):
     """Tell of integers in right places whether one triple is as it should be, the later ones being looked through."""
     web, tie, told = triples[at]
     if tie is None:
-        selftied = any(u == v for u, v in web.ties)
-        return told == (0,) * (web.many + 1) if web.ties and selftied else not web.ties and told == (0,) * web.many + (1,)
+        if any(u == v for u, v in web.ties):
+            return told == (0,) * (web.many + 1)
+        return not web.ties and told == (0,) * web.many + (1,)
     without = [row for other, _, row in triples[at + 1:] if other == taken(web, tie)]
     one = [row for other, _, row in triples[at + 1:] if other == joined(web, tie)]
     due = [a - b for a, b in zip(without[0], one[0] + (0,), strict=True)] if without and one else None

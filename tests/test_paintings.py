@@ -108,7 +108,8 @@ class Paintings(Judging):
                 self.assert_same(told, sorted(told))
 
     def test_greater_webs(self):
-        for web, q in ((petersen(), 3), (crowded(), 3), (Web(8, ladder().ties[:7] + ladder().ties[8:]), 3), (all_tied(6), 6)):
+        open_ladder = Web(8, ladder().ties[:7] + ladder().ties[8:])
+        for web, q in ((petersen(), 3), (crowded(), 3), (open_ladder, 3), (all_tied(6), 6)):
             told = paintings(web, q)
             self.assertEqual(len(told), painted(web, q))
             self.assert_same(told[:5], sorted(told)[:5])

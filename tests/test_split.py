@@ -15,7 +15,8 @@ def split_webs():
     """List webs with all their fitting pairs, alike ties that become selfties among them."""
     webs = [web for many in (2, 3) for web in webs_of(many, 3)] + way_webs_of(3, 2) + webs_of(4, 2)
     webs += [Web(3, ((0, 1), (0, 2), (0, 1), (1, 2))), Web(4, ((0, 3), (1, 3), (2, 3), (0, 1))), all_tied(4)]
-    return [(web, q) for web in webs for q in (0, 1, 2)] + [(triangle(), 3), (wheel(), 1), (Web(3, ((0, 2), (1, 2))), 4)]
+    more = [(triangle(), 3), (wheel(), 1), (Web(3, ((0, 2), (1, 2))), 4)]
+    return [(web, q) for web in webs for q in (0, 1, 2)] + more
 
 
 def open_ties(web):
@@ -145,7 +146,9 @@ class Wrong(Judging):
         for thing in otherwise(((True, True, False), (0, 1, 1))):
             if form(thing) not in right:
                 self.assert_kept(NoPair, split, web, 2, 2, thing)
-        for word, lesser, pair in (("taken", taken(web, 2), ((True, True), (0, 1, 1))), ("joined", joined(web, 2), ((True, True), (0, 1)))):
+        taken_one = ("taken", taken(web, 2), ((True, True), (0, 1, 1)))
+        joined_one = ("joined", joined(web, 2), ((True, True), (0, 1)))
+        for word, lesser, pair in (taken_one, joined_one):
             right = [form(pair) for pair in fitting(lesser, 2)]
             for thing in otherwise(pair):
                 if form(thing) not in right:
@@ -153,8 +156,9 @@ class Wrong(Judging):
 
     def test_order_of_errors(self):
         for tie, q, word, pair in product((0, 3), (2, -1), ("joined", "other"), (((True, True), (0, 0)), ())):
-            due = NoTie if tie else NoColours if q < 0 else NoWord if word == "other" else NoPair if pair == () else None
-            if due is None:
-                self.assert_same(merged(triangle(), tie, q, word, pair), ((False, True, True), (0, 0, 0)))
+            wrong = ((tie, NoTie), (q < 0, NoColours), (word == "other", NoWord), (pair == (), NoPair))
+            errors = [error for is_wrong, error in wrong if is_wrong]
+            if errors:
+                self.assert_kept(errors[0], merged, triangle(), tie, q, word, pair)
             else:
-                self.assert_kept(due, merged, triangle(), tie, q, word, pair)
+                self.assert_same(merged(triangle(), tie, q, word, pair), ((False, True, True), (0, 0, 0)))
