@@ -1,6 +1,7 @@
 """What kind a thing is: the questions that judge arguments."""
 
 MOST_COLOURS = 1000000000
+FEW_COLOURS = 6
 
 
 def is_integer(thing):
@@ -51,3 +52,8 @@ def is_colours(thing):
 def is_integers(thing):
     """Tell whether a thing is a tuple of integers."""
     return isinstance(thing, tuple) and all([is_integer(part) for part in thing])
+
+
+def is_few_colours(thing):
+    """Tell whether a thing is how many colours there may be where colours are exchanged."""
+    return is_between(thing, 1, FEW_COLOURS)

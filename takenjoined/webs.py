@@ -95,3 +95,12 @@ def renamed(web, order):
     if not is_order(order, web.many):
         raise NoOrder()
     return Web(web.many, _called(web.ties, order))
+
+
+def neighbours(web):
+    """List for each place the lot of the other places to which it is tied."""
+    near = []
+    for place in range(web.many):
+        ends = [u + v - place for u, v in web.ties if place in (u, v)]
+        near.append(tuple([other for other in range(web.many) if other in ends and other != place]))
+    return near

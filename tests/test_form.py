@@ -30,6 +30,21 @@ INTERFACE = {
         "is_fitting": ("web", "q", "thing"), "split": ("web", "tie", "q", "pair"),
         "merged": ("web", "tie", "q", "word", "pair"),
     },
+    "turnings": {
+        "turned": ("web", "signing", "place"), "leads": ("web", "signing", "other"),
+        "is_leading": ("web", "signing", "other", "thing"), "rooted": ("web", "signing", "place"),
+        "only": ("web", "place"),
+    },
+    "exchanges": {
+        "chain": ("web", "q", "painting", "place", "colour"), "exchanged": ("web", "q", "painting", "place", "colour"),
+        "row_between": ("web", "q", "one", "other"), "is_row_between": ("web", "q", "one", "other", "thing"),
+        "is_shut": ("web", "q", "thing"), "shut_lot": ("web", "q", "painting"), "shut_lots": ("web", "q"),
+    },
+    "thin": {
+        "thinness": ("web",), "thin_order": ("web", "d"), "is_thin": ("web", "d", "thing"),
+        "is_thick": ("web", "d", "thing"), "thick_lot": ("web", "d"), "first_fit": ("web", "order"),
+        "thin_row": ("web", "q", "order", "one", "other"),
+    },
 }
 BUILTINS = (
     "len range enumerate zip min max sum abs sorted reversed int str bool bytes list tuple dict set isinstance ord "
