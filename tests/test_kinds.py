@@ -2,8 +2,10 @@
 
 import unittest
 
-from takenjoined.kinds import is_below, is_between, is_integer, is_lot, is_order, is_pair
-from tests.things import no_index, odd_things
+from takenjoined.kinds import (
+    is_below, is_between, is_colours, is_few_colours, is_integer, is_integers, is_lot, is_order, is_pair,
+)
+from tests.things import no_colours, no_index, no_integer, odd_things
 
 
 class Kinds(unittest.TestCase):
@@ -21,6 +23,21 @@ class Kinds(unittest.TestCase):
         for thing in no_index(2):
             self.assertIs(is_below(thing, 2), False)
             self.assertIs(is_between(thing, 0, 1), False)
+
+    def test_numbers_of_colours(self):
+        for thing in (0, 1, 6, 7, 10 ** 9 - 1, 10 ** 9):
+            self.assertIs(is_colours(thing), True)
+        for thing in no_colours():
+            self.assertIs(is_colours(thing), False)
+        self.assertEqual([k for k in range(-9, 19) if is_few_colours(k)], [1, 2, 3, 4, 5, 6])
+        for thing in no_integer() + [10 ** 9, 10 ** 20 - 1]:
+            self.assertIs(is_few_colours(thing), False)
+
+    def test_tuples_of_integers(self):
+        for thing in ((), (0,), (-1, 5, 10 ** 20), (7,) * 65):
+            self.assertIs(is_integers(thing), True)
+        for thing in odd_things() + [[0], (0, True), (0, "1"), (1, (2,)), (1, None), 3]:
+            self.assertIs(is_integers(thing), False)
 
     def test_pairs(self):
         for thing in ((0, 1), (None, None), ((), [])):
