@@ -2,6 +2,8 @@
 
 MOST_COLOURS = 1000000000
 FEW_COLOURS = 6
+MOST_DIGITS = 9
+DIGITS = "0123456789"
 
 
 def is_integer(thing):
@@ -54,6 +56,33 @@ def is_integers(thing):
     return isinstance(thing, tuple) and all([is_integer(part) for part in thing])
 
 
+def is_flags(thing):
+    """Tell whether a thing is a tuple of flags."""
+    return isinstance(thing, tuple) and all([isinstance(part, bool) for part in thing])
+
+
 def is_few_colours(thing):
     """Tell whether a thing is how many colours there may be where colours are exchanged."""
     return is_between(thing, 1, FEW_COLOURS)
+
+
+def is_numeral(thing):
+    """Tell whether a thing is how a number is written: at most nine digits without a needless 0."""
+    if not isinstance(thing, str) or not 1 <= len(thing) <= MOST_DIGITS:
+        return False
+    return all([sign in DIGITS for sign in thing]) and (thing == "0" or thing[0] != "0")
+
+
+def is_alike(one, other):
+    """Tell whether two things are equal, also in kind: flags and integers apart, through and through."""
+    pairs = [(one, other)]
+    while pairs:
+        own, met = pairs.pop()
+        if isinstance(own, bool) != isinstance(met, bool) or not own == met:
+            return False
+        # Both are of one kind, one length and with the same keys, for they are equal.
+        if isinstance(own, (list, tuple)):
+            pairs.extend(list(zip(own, met)))
+        elif isinstance(own, dict):
+            pairs.extend([(part, met[key]) for key, part in own.items()])
+    return True

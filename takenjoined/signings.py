@@ -2,7 +2,7 @@
 
 from takenjoined.counts import numbers, worth
 from takenjoined.errors import NoColours, NoPair, NoSigning, NoTie, NoWord, TooMany
-from takenjoined.kinds import is_colours, is_pair
+from takenjoined.kinds import is_colours, is_flags, is_pair
 from takenjoined.paintings import is_painting
 from takenjoined.webs import is_joining, joined, joined_names, taken
 
@@ -12,9 +12,7 @@ WORDS = ("taken", "joined")
 
 def is_signing(web, thing):
     """Tell whether a thing is a signing of a web."""
-    if not isinstance(thing, tuple) or len(thing) != len(web.ties):
-        return False
-    return all([isinstance(flag, bool) for flag in thing])
+    return is_flags(thing) and len(thing) == len(web.ties)
 
 
 def is_rising(web, thing):
@@ -174,6 +172,6 @@ def _put(row, at, thing):
 
 def _called_signing(web, tie, signing):
     """Tell the signing of the other ties when a tie's places become one, or when they become two again."""
-    names = joined_names(web, tie)
+    names = joined_names(web, web.ties[tie])
     others = web.ties[:tie] + web.ties[tie + 1:]
     return tuple([flag != (names[u] > names[v]) for (u, v), flag in zip(others, signing)])

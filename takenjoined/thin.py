@@ -97,11 +97,11 @@ def first_fit(web, order):
     given = {}
     for place in order:
         barred = [given[other] for other in near[place] if other in given]
-        given[place] = _least_but(barred)
+        given[place] = least_but(barred)
     return tuple([given[place] for place in range(web.many)])
 
 
-def _least_but(barred):
+def least_but(barred):
     """Tell the least number that is not barred."""
     return min([number for number in range(len(barred) + 1) if number not in barred])
 

@@ -54,7 +54,12 @@ def joined(web, tie):
     without = taken(web, tie)
     if not is_joining(web, tie):
         return without
-    return Web(web.many - 1, _called(without.ties, joined_names(web, tie)))
+    return made_one(without, web.ties[tie])
+
+
+def made_one(web, pair):
+    """Tell the web in which two unlike places, the lesser one first, are one."""
+    return Web(web.many - 1, _called(web.ties, joined_names(web, pair)))
 
 
 def is_joining(web, thing):
@@ -62,9 +67,9 @@ def is_joining(web, thing):
     return is_below(thing, len(web.ties)) and web.ties[thing][0] < web.ties[thing][1]
 
 
-def joined_names(web, tie):
-    """List for each place what it is called when the two places of a tie have become one."""
-    u, v = web.ties[tie]
+def joined_names(web, pair):
+    """List for each place what it is called when two unlike places, the lesser one first, have become one."""
+    u, v = pair
     names = [place if place < v else place - 1 for place in range(web.many)]
     names[v] = u
     return names

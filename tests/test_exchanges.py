@@ -318,7 +318,8 @@ class Shut(Judging):
         both = sorted(one + other)
         self.assertIs(is_shut(prism(), 3, both), True)
         wrong = [one + other, one[::-1], one[:1] + one, one + one[-1:], one[1:], one[:-1], tuple(one), [], ()]
-        wrong += [both[:-1], [list(painting) for painting in one], [one], one + [(0, 0, 0, 0, 0, 0)], one + [(0, 1, 2, 1, 2, 3)]]
+        wrong += [both[:-1], [list(painting) for painting in one], [one], one + [(0, 0, 0, 0, 0, 0)],
+                  one + [(0, 1, 2, 1, 2, 3)]]
         for thing in [thing for thing in wrong if thing != both]:
             self.assertIs(is_shut(prism(), 3, thing), False)
         two = [(0, 1), (1, 0)]

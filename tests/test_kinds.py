@@ -3,9 +3,11 @@
 import unittest
 
 from takenjoined.kinds import (
-    is_below, is_between, is_colours, is_few_colours, is_integer, is_integers, is_lot, is_order, is_pair,
+    is_alike, is_below, is_between, is_colours, is_few_colours, is_flags, is_integer, is_integers, is_lot, is_numeral,
+    is_order, is_pair,
 )
-from tests.things import no_colours, no_index, no_integer, odd_things
+from takenjoined.webs import Web
+from tests.things import nested, no_colours, no_index, no_integer, odd_things
 
 
 class Kinds(unittest.TestCase):
@@ -62,3 +64,31 @@ class Kinds(unittest.TestCase):
             self.assertIs(is_order(thing, 3), False)
         self.assertIs(is_order((0,), 1), True)
         self.assertIs(is_order((False,), 1), False)
+
+    def test_tuples_of_flags(self):
+        for thing in ((), (True,), (False,), (True, False, False), (True,) * 20000):
+            self.assertIs(is_flags(thing), True)
+        for thing in [thing for thing in odd_things() if thing != (True,) and thing != (False,)]:
+            self.assertIs(is_flags(thing), False)
+        for thing in ((0,), (1,), (True, 1), (True, None), [True], (True, (False,)), True, "+"):
+            self.assertIs(is_flags(thing), False)
+
+    def test_numerals(self):
+        for thing in ("0", "1", "9", "10", "123456789", "999999999", "100000000"):
+            self.assertIs(is_numeral(thing), True)
+        wrong = ["", "00", "01", "0123", "1234567890", "-1", "+1", "1 ", " 1", "1\n", "a", "1a", "1_0", "1.", "--", " "]
+        for thing in wrong + odd_things() + [0, 5, b"5", ("5",), ["5"], ("1", "2")]:
+            self.assertIs(is_numeral(thing), thing == "0")
+
+    def test_equal_also_in_kind(self):
+        things = [0, 1, True, False, "1", b"1", None, (), [], (1,), [1], (True,), [True], {0: 1}, {0: True}, {}]
+        things += [Web(1, ()), (1, [0]), (1, [False]), (1, (0,)), {0: [(1,)]}, {0: [(True,)]}]
+        things += [nested(list, 40, 1), nested(list, 40, True)]
+        for at, one in enumerate(things):
+            for other_at, other in enumerate(things):
+                self.assertIs(is_alike(one, other), at == other_at, (one, other))
+        for kind in (list, tuple, dict):
+            self.assertIs(is_alike(nested(kind, 40, (0, True)), nested(kind, 40, (0, True))), True)
+            self.assertIs(is_alike(nested(kind, 40, (0, True)), nested(kind, 40, (False, True))), False)
+        self.assertIs(is_alike({0: 1, 1: [2]}, {1: [2], 0: 1}), True)
+        self.assertIs(is_alike([0] * 99999, [0] * 99998 + [False]), False)
