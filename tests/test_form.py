@@ -45,7 +45,40 @@ INTERFACE = {
         "is_thick": ("web", "d", "thing"), "thick_lot": ("web", "d"), "first_fit": ("web", "order"),
         "thin_row": ("web", "q", "order", "one", "other"),
     },
+    "coming": {
+        "is_comings": ("thing",), "comings_of": ("web", "order"), "is_forest": ("comings",),
+        "led": ("painter", "comings"), "first_painter": ("comings", "colours"), "forest_foe": ("painter", "many"),
+        "is_forced": ("painter", "many", "thing"), "least_colours": ("places",), "grown_lot": ("comings", "place"),
+    },
+    "greedy": {
+        "greedy": ("web", "many"), "is_greedy": ("web", "many", "thing"), "order_for": ("web", "painting"),
+        "most_by_orders": ("web",), "least_by_orders": ("web",), "worst_order": ("web", "painter"),
+    },
+    "fair": {
+        "many_on": ("web", "q", "begin"), "shares": ("web", "q", "begin"), "painting_at": ("web", "q", "index"),
+        "index_of": ("web", "q", "painting"), "chance": ("web", "q", "drawer", "painting"), "fair_drawer": ("web", "q"),
+        "unfair": ("web", "q", "drawer"), "is_unfair": ("web", "q", "drawer", "thing"),
+        "first_unfair": ("web", "q", "drawer"), "drawn": ("web", "q", "drawer", "throws"),
+        "alike_chance": ("web", "q", "one", "other"),
+    },
+    "tables": {
+        "frames": ("web",), "busy": ("web", "way", "frame"), "table": ("web",), "table_by": ("web", "way"),
+        "frame_of": ("web", "way", "lot"), "table_at": ("web", "x", "y"),
+    },
+    "laws": {"law_value": ("web", "four"), "first_break": ("function", "four", "places", "most")},
+    # The document calls these arguments map; this is the name of a builtin, and they are passed by position.
+    "maps": {
+        "Map": ("web", "turns"), "faces": ("chart",), "is_flat": ("chart",), "opposite": ("chart",),
+        "lines": ("chart",), "five": ("chart",), "light_order": ("chart",),
+    },
+    "texts": {
+        "web_text": ("web",), "read_web": ("text",), "map_text": ("chart",), "read_map": ("text",),
+        "signing_text": ("signing",), "read_signing": ("text",),
+    },
+    "desks": {"Desk": (), "recovered": ("text",)},
 }
+METHODS = {("webs", "Web"): "__init__ __eq__", ("maps", "Map"): "__init__ __eq__",
+           ("desks", "Desk"): "__init__ tell journal"}
 BUILTINS = (
     "len range enumerate zip min max sum abs sorted reversed int str bool bytes list tuple dict set isinstance ord "
     "repr any all divmod pow getattr hasattr setattr iter next map type super property staticmethod classmethod "
@@ -81,9 +114,11 @@ class Interface(unittest.TestCase):
                 self.assertEqual(inspect.isclass(thing), name[0].isupper())
 
     def test_methods_stand_in_their_class(self):
-        web = import_module("takenjoined.webs").Web
-        self.assertIn("__init__", vars(web))
-        self.assertIn("__eq__", vars(web))
+        for (file, name), methods in METHODS.items():
+            for method in methods.split():
+                self.assertIn(method, vars(getattr(import_module("takenjoined." + file), name)))
+        self.assertEqual(list(inspect.signature(import_module("takenjoined.desks").Desk.tell).parameters),
+                         ["self", "line"])
 
 
 class Form(unittest.TestCase):

@@ -3,7 +3,9 @@
 import unittest
 from itertools import combinations, combinations_with_replacement, product
 
+from takenjoined.desks import Desk
 from takenjoined.errors import NoTie
+from takenjoined.maps import Map
 from takenjoined.webs import Web
 
 
@@ -23,6 +25,7 @@ def odd_things():
         range(0), range(3), slice(0, 1), Ellipsis, NotImplemented, object(), len, int, tuple, iter(()),
         (None,), ("0",), ((),), ([],), ({},), (True,), (False,), (0, None), (0, "1"), (0, True), (False, 1), ([0, 1],),
         Web(1, ()), Web(3, ((0, 1),)), (Web(1, ()),), NoTie(), NoTie, [Web(1, ())],
+        Map(Web(1, ()), ((),)), (Map(Web(1, ()), ((),)),), Desk(),
         nested(tuple), nested(list), nested(dict), nested(tuple, core=Web(1, ())), [0] * 99999, (None,) * 99999,
     ]
 
@@ -75,6 +78,8 @@ def form(thing):
     """Tell what a thing holds, so that a change of it can be seen."""
     if isinstance(thing, Web):
         return ("Web", form(thing.many), form(thing.ties))
+    if isinstance(thing, Map):
+        return ("Map", form(thing.web), form(thing.turns))
     if isinstance(thing, (list, tuple)) and len(thing) < 1000:
         return (type(thing), [form(part) for part in thing])
     if isinstance(thing, dict):
