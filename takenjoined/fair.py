@@ -234,7 +234,7 @@ def _followed(tally, drawer, begin, sign):
         bottom *= sum(weights)
         due = tally.shares_at(begin)
         over = [sign * (top * own * whole - share * bottom) for own, share in zip(weights, due)]
-        colour = min([colour for colour in range(tally.q) if over[colour] > 0])
+        colour = min([each for each, part in enumerate(over) if part > 0])
         top *= weights[colour]
         begin += (colour,)
     return begin
